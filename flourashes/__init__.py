@@ -1,0 +1,1 @@
+"""Flour stream blending under ash limits."""
