@@ -2,10 +2,10 @@
 
 from flourashes.operations import Mill, perform
 
-# How many whole numbers each call has behind its own number, by that number.
-ROW_LENGTHS = (1, 2, 1, 3, 3, 1, 1, 0, 0, 2, 1)
 # The calls that tell the length of their row themselves.
 LIST_CALLS = (7,)
+# How many whole numbers each call has behind its own number, by that number; a list call's 0 is never read.
+ROW_LENGTHS = (1, 2, 1, 3, 3, 1, 1, 0, 0, 2, 1)
 
 
 def answers(calls):
