@@ -1,9 +1,16 @@
 """A blender: its streams, its flours and the assignment that is current."""
 
+from flourashes.choosing import (
+    best_assignment_of,
+    best_revenue_of,
+    feasible_assignments,
+    most_flour_with_splitting,
+)
 from flourashes.limits import (
     FEED,
     FLOUR_COUNT,
     MOST_STREAMS,
+    check_ash_limit,
     check_destination,
     check_destinations,
     check_flour_number,
@@ -18,6 +25,8 @@ from flourashes.mixing import (
     ash_of,
     is_feasible,
     lowest_terms,
+    margin_of,
+    prices_of,
     revenue_of,
     streams_of_flour,
 )
@@ -36,8 +45,14 @@ def without(entries, place):
     return entries[:place] + entries[place + 1:]
 
 
+def check_feasible(streams, flours, destinations):
+    """Refuses an assignment by which a flour would exceed its ash limit."""
+    if not is_feasible(streams, flours, destinations):
+        raise AboveAshLimit()
+
+
 class Blender:
-    """Each method is the call of its name; it answers a list of whole numbers or raises a refusal."""
+    """A method with a call's name is that call; it answers a list of whole numbers or raises a refusal."""
 
     def __init__(self, feed_price):
         self.feed_price = feed_price
@@ -47,8 +62,7 @@ class Blender:
 
     def keep(self, streams, flours, destinations):
         """The one way to a changed state, so that the current assignment is always feasible."""
-        if not is_feasible(streams, flours, destinations):
-            raise AboveAshLimit()
+        check_feasible(streams, flours, destinations)
         self.streams = streams
         self.flours = flours
         self.destinations = destinations
@@ -57,6 +71,24 @@ class Blender:
         """Refuses the number of a stream that doesn't exist."""
         if stream >= len(self.streams):
             raise NotThere()
+
+    def streams_of(self, flour):
+        """The streams that the current assignment sends to a flour, which must exist."""
+        check_flour_number(flour)
+        return streams_of_flour(self.streams, self.destinations, flour)
+
+    def earned_by(self, destinations):
+        """The revenue of an assignment of the streams."""
+        return revenue_of(self.streams, prices_of(self.flours, self.feed_price), destinations)
+
+    def best_destinations(self):
+        """The best assignment."""
+        return best_assignment_of(self.streams, self.flours, prices_of(self.flours, self.feed_price))
+
+    def best_revenue_with(self, flour, ash_limit, price):
+        """The best revenue if a flour had this limit and this price."""
+        flours = replaced(self.flours, flour, Flour(ash_limit, price))
+        return best_revenue_of(self.streams, flours, self.feed_price)
 
     def add_stream(self, amount, ash):
         """Adds a stream that goes to feed."""
@@ -104,9 +136,9 @@ class Blender:
 
     def set_assignment(self, destinations):
         """Replaces the current assignment; answers its revenue."""
-        check_destinations(destinations, len(self.streams))
+        answer = self.evaluate_assignment(destinations)
         self.keep(self.streams, self.flours, list(destinations))
-        return [revenue_of(self.streams, self.flours, self.feed_price, self.destinations)]
+        return answer
 
     def get_assignment(self):
         """The number of streams, then the destination of each."""
@@ -122,9 +154,64 @@ class Blender:
 
     def flour_quality(self, flour):
         """The amount of a flour and its mean ash content."""
-        check_flour_number(flour)
-        blended = streams_of_flour(self.streams, self.destinations, flour)
+        blended = self.streams_of(flour)
         if not blended:
             raise EmptyFlour()
         amount = amount_of(blended)
         return [0, amount] + lowest_terms(ash_of(blended), amount)
+
+    def ash_margin(self, flour):
+        """How far a flour is within its ash limit."""
+        return [margin_of(self.streams_of(flour), self.flours[flour].ash_limit)]
+
+    def revenue(self):
+        """The revenue of the current assignment."""
+        return [self.earned_by(self.destinations)]
+
+    def best_assignment(self):
+        """The best revenue, then the best assignment."""
+        best = self.best_destinations()
+        return [self.earned_by(best)] + best
+
+    def apply_best_assignment(self):
+        """Makes the best assignment the current one; answers its revenue."""
+        return self.set_assignment(self.best_destinations())
+
+    def feasible_count(self):
+        """The number of feasible assignments."""
+        return [len(feasible_assignments(self.streams, self.flours))]
+
+    def evaluate_assignment(self, destinations):
+        """The revenue of an assignment that needn't be the current one."""
+        check_destinations(destinations, len(self.streams))
+        check_feasible(self.streams, self.flours, destinations)
+        return [self.earned_by(destinations)]
+
+    def max_first_flour(self):
+        """The largest amount of flour 0 from whole streams, then the assignment that makes it."""
+        # Where flour 0 alone earns anything, and 1 per unit, the revenue is its amount.
+        prices = [1] + [0] * FLOUR_COUNT
+        most = best_assignment_of(self.streams, self.flours, prices)
+        return [revenue_of(self.streams, prices, most)] + most
+
+    def max_first_flour_split(self):
+        """The largest amount of flour 0 if streams may be split, as a fraction."""
+        return [0] + most_flour_with_splitting(self.streams, self.flours[0].ash_limit)
+
+    def best_revenue_for_limit(self, flour, ash_limit):
+        """The best revenue if a flour had this limit."""
+        check_flour_number(flour)
+        check_ash_limit(ash_limit)
+        return [self.best_revenue_with(flour, ash_limit, self.flours[flour].price)]
+
+    def value_of_stream(self, stream):
+        """How much of the best revenue is owed to a stream."""
+        self.check_stream_number(stream)
+        best = best_revenue_of(self.streams, self.flours, self.feed_price)
+        return [0, best - best_revenue_of(without(self.streams, stream), self.flours, self.feed_price)]
+
+    def best_revenue_for_price(self, flour, price):
+        """The best revenue if a flour had this price."""
+        check_flour_number(flour)
+        check_price(price)
+        return [self.best_revenue_with(flour, self.flours[flour].ash_limit, price)]

@@ -3,9 +3,9 @@
 from flourashes.operations import Mill, perform
 
 # The calls that tell the length of their row themselves.
-LIST_CALLS = (7,)
+LIST_CALLS = (7, 16)
 # How many whole numbers each call has behind its own number, by that number; a list call's 0 is never read.
-ROW_LENGTHS = (1, 2, 1, 3, 3, 1, 1, 0, 0, 2, 1)
+ROW_LENGTHS = (1, 2, 1, 3, 3, 1, 1, 0, 0, 2, 1, 1, 0, 0, 0, 0, 0, 0, 0, 2, 1, 2)
 
 
 def answers(calls):

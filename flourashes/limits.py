@@ -18,9 +18,14 @@ def check_stream_values(amount, ash):
 
 def check_flour_values(ash_limit, price):
     """Refuses an ash limit or a price that no flour may have."""
+    check_ash_limit(ash_limit)
+    check_price(price)
+
+
+def check_ash_limit(ash_limit):
+    """Refuses an ash limit that no flour may have."""
     if ash_limit > MOST_ASH:
         raise OutsideLimits()
-    check_price(price)
 
 
 def check_price(price):

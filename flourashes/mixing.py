@@ -32,20 +32,28 @@ def ash_of(streams):
     return sum([stream.amount * stream.ash for stream in streams])
 
 
+def margin_of(streams, ash_limit):
+    """How much more ash these streams together might have; below 0 they exceed the limit."""
+    # Multiplied out, as no streams at all have no mean to compare.
+    return ash_limit * amount_of(streams) - ash_of(streams)
+
+
 def is_feasible(streams, flours, destinations):
     """Whether an assignment keeps every flour within its ash limit."""
     for number, flour in enumerate(flours):
-        blended = streams_of_flour(streams, destinations, number)
-        # Multiplied out, as a flour without streams has no mean to compare.
-        if ash_of(blended) > flour.ash_limit * amount_of(blended):
+        if margin_of(streams_of_flour(streams, destinations, number), flour.ash_limit) < 0:
             return False
     return True
 
 
-def revenue_of(streams, flours, feed_price, destinations):
-    """What an assignment earns."""
+def prices_of(flours, feed_price):
+    """What each destination earns per unit of amount."""
     # Feed is the destination behind the last flour, so its price stands there.
-    prices = [flour.price for flour in flours] + [feed_price]
+    return [flour.price for flour in flours] + [feed_price]
+
+
+def revenue_of(streams, prices, destinations):
+    """What an assignment earns at these prices of the destinations."""
     return sum([stream.amount * prices[destination] for stream, destination in zip(streams, destinations)])
 
 

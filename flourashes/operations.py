@@ -76,6 +76,61 @@ def flour_quality(mill, row):
     return present_blender(mill).flour_quality(row[0])
 
 
+def ash_margin(mill, row):
+    """Call 11."""
+    return present_blender(mill).ash_margin(row[0])
+
+
+def revenue(mill, row):
+    """Call 12, whose row is empty."""
+    return present_blender(mill).revenue()
+
+
+def best_assignment(mill, row):
+    """Call 13, whose row is empty."""
+    return present_blender(mill).best_assignment()
+
+
+def apply_best_assignment(mill, row):
+    """Call 14, whose row is empty."""
+    return present_blender(mill).apply_best_assignment()
+
+
+def feasible_count(mill, row):
+    """Call 15, whose row is empty."""
+    return present_blender(mill).feasible_count()
+
+
+def evaluate_assignment(mill, row):
+    """Call 16."""
+    return present_blender(mill).evaluate_assignment(row)
+
+
+def max_first_flour(mill, row):
+    """Call 17, whose row is empty."""
+    return present_blender(mill).max_first_flour()
+
+
+def max_first_flour_split(mill, row):
+    """Call 18, whose row is empty."""
+    return present_blender(mill).max_first_flour_split()
+
+
+def best_revenue_for_limit(mill, row):
+    """Call 19."""
+    return present_blender(mill).best_revenue_for_limit(row[0], row[1])
+
+
+def value_of_stream(mill, row):
+    """Call 20."""
+    return present_blender(mill).value_of_stream(row[0])
+
+
+def best_revenue_for_price(mill, row):
+    """Call 21."""
+    return present_blender(mill).best_revenue_for_price(row[0], row[1])
+
+
 OPERATIONS = (
     create,
     add_stream,
@@ -88,6 +143,17 @@ OPERATIONS = (
     get_assignment,
     move_stream,
     flour_quality,
+    ash_margin,
+    revenue,
+    best_assignment,
+    apply_best_assignment,
+    feasible_count,
+    evaluate_assignment,
+    max_first_flour,
+    max_first_flour_split,
+    best_revenue_for_limit,
+    value_of_stream,
+    best_revenue_for_price,
 )
 
 

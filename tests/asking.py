@@ -16,6 +16,17 @@ NUMBERS = {
     "get_assignment": 8,
     "move_stream": 9,
     "flour_quality": 10,
+    "ash_margin": 11,
+    "revenue": 12,
+    "best_assignment": 13,
+    "apply_best_assignment": 14,
+    "feasible_count": 15,
+    "evaluate_assignment": 16,
+    "max_first_flour": 17,
+    "max_first_flour_split": 18,
+    "best_revenue_for_limit": 19,
+    "value_of_stream": 20,
+    "best_revenue_for_price": 21,
 }
 GREATEST = 4294967295
 
@@ -60,6 +71,8 @@ SHOWING = [
     ("get_assignment",),
     *[("get_stream", stream) for stream in range(7)],
     *[("flour_quality", flour) for flour in range(3)],
+    *[("ash_margin", flour) for flour in range(3)],
+    ("revenue",),
     *[("set_flour", flour, 300, 0) for flour in range(3)],
     ("set_feed_price", 0),
 ]
@@ -83,6 +96,10 @@ class AskingCase(unittest.TestCase):
 
     def assert_refused_without_change(self, calls, refused, code):
         """After the calls, one more is refused, and all that the blender holds is as without it."""
-        self.assert_last(calls + [refused], [code])
-        shown = ask(*calls, refused, *SHOWING)[len(calls) + 1:]
-        self.assertEqual(shown, ask(*calls, *SHOWING)[len(calls):], refused)
+        self.assert_answered_without_change(calls, refused, [code])
+
+    def assert_answered_without_change(self, calls, asked, expected):
+        """After the calls, one more is answered by this list, and all that the blender holds is as without it."""
+        self.assert_last(calls + [asked], expected)
+        shown = ask(*calls, asked, *SHOWING)[len(calls) + 1:]
+        self.assertEqual(shown, ask(*calls, *SHOWING)[len(calls):], asked)

@@ -15,6 +15,17 @@ OTHER_CALLS = [
     ("get_assignment",),
     ("move_stream", 0, 3),
     ("flour_quality", 0),
+    ("ash_margin", 0),
+    ("revenue",),
+    ("best_assignment",),
+    ("apply_best_assignment",),
+    ("feasible_count",),
+    ("evaluate_assignment", []),
+    ("max_first_flour",),
+    ("max_first_flour_split",),
+    ("best_revenue_for_limit", 0, 60),
+    ("value_of_stream", 0),
+    ("best_revenue_for_price", 0, 9),
 ]
 WRONG_CALLS = [
     ("add_stream", 0, 301),
@@ -29,6 +40,18 @@ WRONG_CALLS = [
     ("set_assignment", [GREATEST] * 8),
     ("move_stream", GREATEST, 4),
     ("flour_quality", 3),
+    ("ash_margin", 3),
+    ("ash_margin", GREATEST),
+    ("evaluate_assignment", [4]),
+    ("evaluate_assignment", [GREATEST] * 8),
+    ("best_revenue_for_limit", 3, 301),
+    ("best_revenue_for_limit", 0, 301),
+    ("best_revenue_for_limit", GREATEST, GREATEST),
+    ("value_of_stream", 6),
+    ("value_of_stream", GREATEST),
+    ("best_revenue_for_price", 3, 100),
+    ("best_revenue_for_price", 0, 100),
+    ("best_revenue_for_price", GREATEST, GREATEST),
 ]
 
 
@@ -57,6 +80,11 @@ class CreateTest(AskingCase):
             (("flour_quality", 1), [-33]),
             (("flour_quality", 2), [-33]),
             (("set_assignment", []), [0]),
+            (("evaluate_assignment", []), [0]),
+            (("ash_margin", 2), [0]),
+            (("revenue",), [0]),
+            (("best_assignment",), [0]),
+            (("feasible_count",), [1]),
             (("set_feed_price", 8), [7]),
         )
 

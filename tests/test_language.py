@@ -142,6 +142,46 @@ class CodeTest(unittest.TestCase):
             if isinstance(node, ast.arg):
                 self.assertFalse(hasattr(builtins, node.arg), place)
 
+    def test_no_parameter_or_local_is_called_like_a_class_or_an_import(self):
+        for name, tree in trees():
+            taken = {node.name for node in ast.walk(tree) if isinstance(node, ast.ClassDef)}
+            for node in ast.walk(tree):
+                if isinstance(node, ast.ImportFrom):
+                    taken.update(alias.asname or alias.name for alias in node.names)
+            for node in ast.walk(tree):
+                if isinstance(node, ast.arg):
+                    self.assertNotIn(node.arg, taken, (name, node.lineno))
+                if isinstance(node, ast.Name) and isinstance(node.ctx, ast.Store):
+                    self.assertNotIn(node.id, taken, (name, node.lineno))
+
+    def test_keywords(self):
+        keywords = {"sorted": {"key", "reverse"}, "min": {"key", "default"}, "max": {"key", "default"}}
+        keywords.update({"sum": {"start"}, "enumerate": {"start"}, "zip": {"strict"}})
+        for place, node in self.each_node():
+            if isinstance(node, ast.Call) and node.keywords:
+                self.assertIsInstance(node.func, ast.Name, place)
+                self.assertLessEqual({part.arg for part in node.keywords}, keywords.get(node.func.id, set()), place)
+
+    def test_is_stands_beside_none_true_and_false(self):
+        for place, node in self.each_node():
+            if isinstance(node, ast.Compare):
+                for operator, right in zip(node.ops, node.comparators):
+                    if isinstance(operator, (ast.Is, ast.IsNot)):
+                        self.assertIsInstance(right, ast.Constant, place)
+                        self.assertIn(repr(right.value), ("None", "True", "False"), place)
+
+    def test_interface_stands_once_in_its_file(self):
+        found = [
+            (name, node)
+            for name, tree in trees()
+            for node in tree.body
+            if isinstance(node, (ast.FunctionDef, ast.ClassDef)) and node.name == "answers"
+        ]
+        self.assertEqual([name for name, _ in found], ["blending.py"])
+        arguments = found[0][1].args
+        self.assertEqual([argument.arg for argument in arguments.args], ["calls"])
+        self.assertEqual(arguments.defaults, [])
+
     def test_no_name_is_a_method_and_a_value(self):
         methods = set()
         values = set()
